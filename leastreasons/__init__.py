@@ -1,0 +1,1 @@
+"""Leastreasons: why a decider gives its answer."""

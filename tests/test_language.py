@@ -1,0 +1,98 @@
+"""The rules of the language subset that can be seen from the code alone, over every file of the package."""
+
+import ast
+import pathlib
+import re
+import unittest
+
+PACKAGE = pathlib.Path(__file__).resolve().parent.parent / "leastreasons"
+LIBRARY = {"heapq", "math", "itertools", "collections", "__future__"}
+NO_NAMES = {
+    "register", "mro", "elements", "open", "input", "law", "version_info", "with_traceback", "add_note",
+    "typing", "enum", "Enum", "dataclass", "overload", "contextmanager", "abstractmethod", "namedtuple", "eval", "exec",
+    "globals", "locals", "vars", "id", "hash", "filter", "compile", "dir", "help", "exit", "quit",
+}
+MODULE_LEVEL = (ast.ImportFrom, ast.FunctionDef, ast.ClassDef, ast.Assign)
+NO_STATEMENTS = (ast.AsyncFunctionDef, ast.AsyncFor, ast.AsyncWith, ast.Import, ast.TryStar, ast.Await, ast.Div)
+
+
+def files():
+    """The files of the package."""
+    return [path for path in sorted(PACKAGE.rglob("*")) if "__pycache__" not in path.parts]
+
+
+def modules():
+    """Each file of the package with its syntax tree."""
+    return [(path, ast.parse(path.read_text(encoding="utf-8"))) for path in files() if path.suffix == ".py"]
+
+
+def is_docstring(statement):
+    """Whether a statement is only a string."""
+    return isinstance(statement, ast.Expr) and isinstance(statement.value, ast.Constant)
+
+
+class FilesTest(unittest.TestCase):
+    def test_only_python_files_with_plain_names(self):
+        self.assertTrue(files())
+        for path in files():
+            self.assertTrue(path.is_dir() or re.fullmatch(r"[a-z0-9_]+\.py", path.name), path)
+            self.assertTrue(path.is_file() or (path / "__init__.py").is_file(), path)
+
+    def test_sizes_and_characters(self):
+        for path, tree in modules():
+            text = path.read_text(encoding="utf-8")
+            lines = text.splitlines()
+            self.assertLessEqual(len(lines), 399, path)
+            self.assertLessEqual(max(map(len, lines)), 120, path)
+            self.assertEqual(re.findall(r"[^\n -~]", text), [], path)
+            for node in ast.walk(tree):
+                if isinstance(node, ast.FunctionDef):
+                    self.assertLessEqual(node.end_lineno - node.lineno + 1, 40, (path, node.name))
+
+
+class ImportsTest(unittest.TestCase):
+    def test_names_are_imported_from_the_file_that_defines_them(self):
+        defined = {}
+        for path, tree in modules():
+            names = {node.name for node in tree.body if isinstance(node, (ast.FunctionDef, ast.ClassDef))}
+            names |= {node.targets[0].id for node in tree.body if isinstance(node, ast.Assign)}
+            defined[f"leastreasons.{path.stem}"] = names
+        for path, tree in modules():
+            for node in ast.walk(tree):
+                if isinstance(node, ast.ImportFrom) and node.module not in LIBRARY:
+                    self.assertEqual(node.level, 0, path)
+                    self.assertIn(node.module, defined, path)
+                    self.assertLessEqual({name.name for name in node.names}, defined[node.module], path)
+                    self.assertEqual([name.asname for name in node.names if name.asname], [], path)
+
+    def test_no_two_files_import_from_each_other(self):
+        imported = {}
+        for path, tree in modules():
+            nodes = [node for node in tree.body if isinstance(node, ast.ImportFrom)]
+            imported[f"leastreasons.{path.stem}"] = {node.module for node in nodes} - LIBRARY
+        while imported:
+            free = [name for name, others in imported.items() if not others & imported.keys()]
+            self.assertTrue(free, imported)
+            for name in free:
+                del imported[name]
+
+
+class StatementsTest(unittest.TestCase):
+    def test_module_level(self):
+        for path, tree in modules():
+            for at, node in enumerate(tree.body):
+                self.assertTrue(isinstance(node, MODULE_LEVEL) or (at == 0 and is_docstring(node)), (path, node.lineno))
+
+    def test_no_names_and_statements_outside_the_subset(self):
+        for path, tree in modules():
+            for node in ast.walk(tree):
+                where = (path, getattr(node, "lineno", None))
+                self.assertNotIsInstance(node, NO_STATEMENTS, where)
+                name = getattr(node, "id", None) or getattr(node, "name", None) or getattr(node, "arg", None)
+                self.assertNotIn(name, NO_NAMES, where)
+                if isinstance(node, ast.Constant):
+                    self.assertNotIsInstance(node.value, (float, complex), where)
+
+
+if __name__ == "__main__":
+    unittest.main()
