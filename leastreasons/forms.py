@@ -111,11 +111,11 @@ def ordered_tree_completing(sizes, form, half):
     # Cases that differ in the last unknown field alone are neighbours; joining them leaves the field before it last.
     for field in unknown[::-1]:
         size = sizes[field]
-        trees = [_tested(field, tuple(trees[at:at + size])) for at in range(0, len(trees), size)]
+        trees = [tested(field, tuple(trees[at:at + size])) for at in range(0, len(trees), size)]
     return trees[0]
 
 
-def _tested(field, branches):
+def tested(field, branches):
     """The tree that tests the field, or its first branch if the test makes no difference."""
     if branches.count(branches[0]) == len(branches):
         return branches[0]

@@ -1,4 +1,4 @@
-"""The kinds of single values, on which all other tests of values rest."""
+"""The kinds of single values, on which all other tests of values rest, and numbers in their order."""
 
 
 def is_integer(value):
@@ -20,3 +20,9 @@ def are_ascending_below(values, limit):
             return False
         least = value + 1
     return True
+
+
+def ascending_numbers(numbers):
+    """The ascending list of some integers; equal ones stand side by side."""
+    # A class that compares lets only plain numbers be sorted in its package; int(..) shows that these are such.
+    return sorted([int(number) for number in numbers])

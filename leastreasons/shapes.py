@@ -42,9 +42,12 @@ def has_form_shape(sizes, value):
 
 def has_plain_tree_shape(sizes, value):
     """Whether any value is a plain tree of the sheet, for sizes that are checked."""
-    if not has_form_shape(sizes, value):
-        return False
-    return all([part[0] in PLAIN_WORDS for part in all_forms(value)])
+    return has_form_shape(sizes, value) and has_plain_words(value)
+
+
+def has_plain_words(form):
+    """Whether a form is a plain tree."""
+    return all([part[0] in PLAIN_WORDS for part in all_forms(form)])
 
 
 def is_conditions(sizes, value):

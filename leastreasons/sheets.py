@@ -1,7 +1,7 @@
 """Sheets and their cases: what they are, how they are numbered, and which ones complete a half case."""
 
-from leastreasons.errors import InvalidCase, InvalidHalf, InvalidIndex, InvalidSizes, NotSmall
-from leastreasons.kinds import is_integer, is_integer_below
+from leastreasons.errors import InvalidCase, InvalidFields, InvalidHalf, InvalidIndex, InvalidSizes, NotSmall
+from leastreasons.kinds import are_ascending_below, is_integer, is_integer_below
 
 MOST_FIELDS = 24
 LEAST_SIZE = 2
@@ -46,6 +46,18 @@ def check_half(sizes, half):
         raise InvalidHalf("a half case is a list with one of its values or None for each field")
 
 
+def check_fields(sizes, fields):
+    """Raise InvalidFields unless any value is an ascending list of fields of the sheet."""
+    if not isinstance(fields, list) or not are_ascending_below(fields, len(sizes)):
+        raise InvalidFields("fields are an ascending list of fields of the sheet")
+
+
+def check_order(sizes, order):
+    """Raise InvalidFields unless any value is a list that has each field of the sheet exactly once."""
+    if not _is_order(sizes, order):
+        raise InvalidFields("an order is a list that has each field of the sheet exactly once")
+
+
 def check_index(index, count):
     """Raise InvalidIndex unless any value is an integer from 0 on that is less than the count."""
     if not is_integer_below(index, count):
@@ -87,6 +99,26 @@ def list_completing(sizes, half):
         choices = list(range(sizes[at])) if half[at] is None else [half[at]]
         cases = [[*begun, value] for begun in cases for value in choices]
     return cases
+
+
+def unlike_fields(case, second_case):
+    """The list of the fields in which two cases have unlike values, for cases that are checked."""
+    return [at for at in range(len(case)) if case[at] != second_case[at]]
+
+
+def nth_counted_case(sizes, index, count_begun):
+    """The case with an index among some cases, of which count_begun tells how many begin with some values."""
+    begun = []
+    rest = index
+    for _ in sizes:
+        value = 0
+        many = count_begun([*begun, value])
+        while rest >= many:
+            rest = rest - many
+            value += 1
+            many = count_begun([*begun, value])
+        begun.append(value)
+    return begun
 
 
 def count_cases(sizes):
@@ -133,4 +165,13 @@ def differing(sizes, case, second_case):
     check_sizes(sizes)
     check_case(sizes, case)
     check_case(sizes, second_case)
-    return [at for at in range(len(sizes)) if case[at] != second_case[at]]
+    return unlike_fields(case, second_case)
+
+
+def _is_order(sizes, value):
+    """Whether any value is a list that has each field of the sheet exactly once."""
+    if not isinstance(value, list) or len(value) != len(sizes):
+        return False
+    if not all([is_integer_below(field, len(sizes)) for field in value]):
+        return False
+    return all([field in value for field in range(len(sizes))])

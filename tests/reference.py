@@ -145,7 +145,8 @@ def called(test, function, *passed):
 def refused(test, error, function, *passed):
     """See that a call raises exactly this error, by position and by name."""
     names = list(inspect.signature(function).parameters)
+    shown = repr(passed)[:300]
     for call in (lambda: function(*passed), lambda: function(**dict(zip(names, passed)))):
-        with test.assertRaises(ReasonError, msg=repr(passed)[:300]) as caught:
+        with test.assertRaises(ReasonError, msg=shown) as caught:
             call()
-        test.assertIs(caught.exception.__class__, error, repr(passed)[:300])
+        test.assertIs(caught.exception.__class__, error, shown)

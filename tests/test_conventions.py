@@ -1,81 +1,68 @@
 """Promise 2: the errors of each argument and their order, and that arguments and results stay apart."""
 
+import copy
+import importlib
 import itertools
 import unittest
 
-from leastreasons import errors, forms, sheets
-from tests.reference import ANY_VALUES, NO, YES, called, nested, refused
-
-SIZES = [2, 3]
-FORM = ("tree", 0, (("is", 1, (0, 2)), YES))
-
-# Each argument with its error and values that it must not have on SIZES and on a sheet of twelve fields alike.
-WRONG = {
-    "sizes": (errors.InvalidSizes, [None, (2, 3), [2, 7], [2, True], "2", [2] * 25, [[2, 3]]]),
-    "form": (errors.InvalidForm, [None, YES[:1], ["say", True], ("say", 1), ("is", 99, ()), ("and", (YES, 0)), "say"]),
-    "case": (errors.InvalidCase, [None, (0, 0), [0], [0, 3, 0], [0, None], [True, 0], [-1, 0], [[0], 0], "00", 0]),
-    "second_case": (errors.InvalidCase, [None, (1, 1), [], [0, "0"], [0, None], [0, False], [0, -1], [2, 0], 1]),
-    "half": (errors.InvalidHalf, [None, (None, 0), [None], [None] * 3, [None, False], [None, -1], ["?", 0], [6, 0], 0]),
-    "index": (errors.InvalidIndex, [None, -1, 10 ** 31 - 1, True, False, "0", [0], (0,)]),
-}
-
-# Each function with right arguments on SIZES and on a sheet that is not small, and whether it needs a small one.
-BIG_SIZES = [2] * 12
-BIG_FORM = ("or", (("is", 11, (1,)), ("tree", 0, (NO, YES))))
-ANY_SHEET = False
-SMALL_SHEET = True
-FUNCTIONS = [
-    (sheets.count_cases, ["sizes"], [SIZES], [BIG_SIZES], ANY_SHEET),
-    (sheets.is_small, ["sizes"], [SIZES], [BIG_SIZES], ANY_SHEET),
-    (sheets.nth_case, ["sizes", "index"], [SIZES, 5], [BIG_SIZES, 4095], ANY_SHEET),
-    (sheets.case_index, ["sizes", "case"], [SIZES, [1, 2]], [BIG_SIZES, [1] * 12], ANY_SHEET),
-    (sheets.completing, ["sizes", "half"], [SIZES, [None, 2]], [BIG_SIZES, [None] * 12], SMALL_SHEET),
-    (sheets.differing, ["sizes", "case", "second_case"], [SIZES, [1, 2], [0, 2]],
-     [BIG_SIZES, [0] * 12, [1] * 12], ANY_SHEET),
-    (forms.is_form, ["sizes"], [SIZES, FORM], [BIG_SIZES, BIG_FORM], ANY_SHEET),
-    (forms.is_plain_tree, ["sizes"], [SIZES, FORM], [BIG_SIZES, BIG_FORM], ANY_SHEET),
-    (forms.answer, ["sizes", "form", "case"], [SIZES, FORM, [0, 2]], [BIG_SIZES, BIG_FORM, [0] * 12], ANY_SHEET),
-    (forms.answers, ["sizes", "form"], [SIZES, FORM], [BIG_SIZES, BIG_FORM], SMALL_SHEET),
-    (forms.measure, ["sizes", "form"], [SIZES, FORM], [BIG_SIZES, BIG_FORM], ANY_SHEET),
-    (forms.named_fields, ["sizes", "form"], [SIZES, FORM], [BIG_SIZES, BIG_FORM], ANY_SHEET),
-    (forms.ordered_tree, ["sizes", "form"], [SIZES, FORM], [BIG_SIZES, BIG_FORM], SMALL_SHEET),
-    (forms.fixed, ["sizes", "form", "half"], [SIZES, FORM, [None, 2]], [BIG_SIZES, BIG_FORM, [0] * 12], SMALL_SHEET),
-]
+from leastreasons import errors, forms, reasons, sheets
+from tests.calls import FORM, FUNCTIONS, RIGHT, SIZES, WRONG
+from tests.reference import ANY_VALUES, YES, called, nested, refused
+from tests.test_interface import FUNCTIONS as INTERFACE
 
 
-def right_sizes(value):
-    """Whether one of ANY_VALUES is the sizes of a sheet, told without the program."""
-    return value == [] and isinstance(value, list)
+def lists_in(value):
+    """All lists in a value, itself included."""
+    found = [value] if isinstance(value, list) else []
+    if isinstance(value, (list, tuple)):
+        found += [inner for part in value for inner in lists_in(part)]
+    return found
+
+
+def spoil(value):
+    """Change all lists in a value."""
+    for part in lists_in(value):
+        part.append(9)
+
+
+class CallsTest(unittest.TestCase):
+    def test_each_function_of_the_interface_is_called(self):
+        listed = [(module, name) for module, functions in INTERFACE.items() for name in functions if name != "is_sizes"]
+        self.assertEqual({(call[0].__module__, call[0].__name__) for call in FUNCTIONS}, set(listed))
+        for function, names, small, big, _ in FUNCTIONS:
+            parameters = INTERFACE[function.__module__][function.__name__]
+            self.assertEqual(names, [name for name in parameters if name in WRONG][:len(names)])
+            self.assertEqual(set(parameters) - set(names) - {"value"}, set(), function)
+            self.assertEqual((len(small), len(big)), (len(parameters),) * 2)
+            self.assertIs(getattr(importlib.import_module(function.__module__), function.__name__), function)
 
 
 class ErrorsOfArgumentsTest(unittest.TestCase):
     def test_each_argument_alone(self):
         for function, names, passed, _, _ in FUNCTIONS:
             for at, name in enumerate(names):
-                error, values = WRONG[name]
-                for value in values:
-                    refused(self, error, function, *passed[:at], value, *passed[at + 1:])
+                for error, values in WRONG[name]:
+                    for value in values:
+                        refused(self, error, function, *passed[:at], value, *passed[at + 1:])
 
     def test_several_arguments_in_the_order_of_the_signature(self):
         for function, names, small, big, _ in FUNCTIONS:
             for passed in (small, big):
-                for wrong in itertools.product([False, True], repeat=len(names)):
+                for wrong in itertools.product(*[[None, *WRONG[name]] for name in names]):
                     if any(wrong):
-                        self.see_first_error(function, names, passed, wrong)
-
-    def see_first_error(self, function, names, passed, wrong):
-        spoilt = list(passed)
-        for at, name in enumerate(names):
-            if wrong[at]:
-                spoilt[at] = WRONG[name][1][0]
-        first = names[wrong.index(True)]
-        refused(self, WRONG[first][0], function, *spoilt)
+                        spoilt = list(passed)
+                        for at, pair in enumerate(wrong):
+                            if pair is not None:
+                                spoilt[at] = pair[1][0]
+                        first = next(pair for pair in wrong if pair is not None)
+                        refused(self, first[0], function, *spoilt)
 
     def test_a_call_that_raises_an_error_changes_nothing(self):
         for function, names, small, big, needs_small in FUNCTIONS:
             calls = [big] if needs_small else []
             for at, name in enumerate(names):
-                calls += [[*small[:at], value, *small[at + 1:]] for value in WRONG[name][1]]
+                for _, values in WRONG[name]:
+                    calls += [[*small[:at], value, *small[at + 1:]] for value in values]
             for passed in calls:
                 before = repr(passed)
                 with self.assertRaises(errors.ReasonError):
@@ -86,8 +73,9 @@ class ErrorsOfArgumentsTest(unittest.TestCase):
         for function, names, _, big, needs_small in FUNCTIONS:
             if needs_small:
                 for at, name in enumerate(names):
-                    for value in WRONG[name][1]:
-                        refused(self, WRONG[name][0], function, *big[:at], value, *big[at + 1:])
+                    for error, values in WRONG[name]:
+                        for value in values:
+                            refused(self, error, function, *big[:at], value, *big[at + 1:])
 
     def test_not_small_behind_the_arguments(self):
         for function, _, _, big, needs_small in FUNCTIONS:
@@ -96,17 +84,22 @@ class ErrorsOfArgumentsTest(unittest.TestCase):
             else:
                 called(self, function, *big)
 
+    def test_not_small_ahead_of_the_errors_of_the_points(self):
+        sizes, case = [2] * 11, [0] * 11
+        refused(self, errors.NotSmall, reasons.reason_cases, sizes, YES, case, [0, 1])
+        refused(self, errors.NoReason, reasons.reason_cases, sizes[1:], YES, case[1:], [0, 1])
+        refused(self, errors.NotSmall, reasons.cheapest_turn, sizes, YES, case, case)
+        refused(self, errors.NoTurn, reasons.cheapest_turn, sizes[1:], YES, case[1:], case[1:])
+
     def test_values_of_every_kind(self):
         for function, names, passed, _, _ in FUNCTIONS:
-            for value in ANY_VALUES:
-                if "sizes" in names and not right_sizes(value):
-                    refused(self, errors.InvalidSizes, function, value, *passed[1:])
-                for at, name in enumerate(names[1:], start=1):
-                    if not (name == "form" and value == YES) and not (name == "index" and self.is_index(value)):
-                        refused(self, WRONG[name][0], function, *passed[:at], value, *passed[at + 1:])
-
-    def is_index(self, value):
-        return isinstance(value, int) and not isinstance(value, bool) and 0 <= value < 6
+            for at, name in enumerate(names):
+                right = [repr(value) for value in RIGHT.get(name, [])]
+                for value in ANY_VALUES:
+                    # Only the values of one kind of wrong trees and cards are forms at all.
+                    error = WRONG[name][1 if name == "card" and value == YES else 0][0]
+                    if repr(value) not in right:
+                        refused(self, error, function, *passed[:at], value, *passed[at + 1:])
 
     def test_values_nested_deep_in_a_form(self):
         deep = nested(tuple, 38)
@@ -119,20 +112,34 @@ class ResultsTest(unittest.TestCase):
         for function, _, small, big, needs_small in FUNCTIONS:
             for passed in [small] if needs_small else [small, big]:
                 first = called(self, function, *passed)
-                self.assertEqual(called(self, function, *passed), first)
+                self.assertEqual(repr(called(self, function, *passed)), repr(first))
 
     def test_a_changed_result_changes_no_later_one(self):
-        for function, _, passed, _, _ in FUNCTIONS:
-            first = function(*passed)
-            if isinstance(first, list):
-                expected = repr(first)
-                for row in first:
-                    if isinstance(row, list):
-                        row.append(9)
-                first.append(9)
+        for function, _, small, big, needs_small in FUNCTIONS:
+            for passed in [small] if needs_small else [small, big]:
+                first = function(*passed)
+                expected, before = repr(first), repr(passed)
+                spoil(first)
                 self.assertEqual(repr(function(*passed)), expected)
+                self.assertEqual(repr(passed), before)
+
+    def test_returned_lists_are_new(self):
+        for function, _, small, big, needs_small in FUNCTIONS:
+            for passed in [small] if needs_small else [small, big]:
+                found, second = function(*passed), function(*passed)
+                seen = [id(part) for part in [*lists_in(found), *lists_in(second)]]
+                self.assertEqual(len(set(seen)), len(seen))
+                self.assertFalse(set(seen) & {id(part) for part in lists_in(passed)})
 
     def test_a_changed_argument_changes_no_earlier_result(self):
+        for function, _, small, _, _ in FUNCTIONS:
+            passed = copy.deepcopy(small)
+            found = function(*passed)
+            expected = repr(found)
+            spoil(passed)
+            self.assertEqual(repr(found), expected)
+
+    def test_some_results_behind_changed_arguments(self):
         sizes, half = [2, 3], [1, 2]
         filled = sheets.completing(sizes, half)
         tree = forms.fixed(sizes, FORM, half)
@@ -152,6 +159,8 @@ class ResultsTest(unittest.TestCase):
         for case in sheets.completing(sizes, sheets.nth_case(sizes, 700)):
             self.assertEqual(forms.fixed(sizes, tree, case), ("say", forms.answer(sizes, form, case)))
             self.assertEqual(sheets.case_index(sizes, case), 700)
+            self.assertEqual(reasons.reasons(sizes, tree, case), [list(range(10))])
+            self.assertEqual(reasons.turns(sizes, table, case), [[field] for field in range(10)])
 
     def test_returned_lists_are_different_objects(self):
         sizes, half = [2, 3], [1, 0]

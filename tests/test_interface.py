@@ -1,4 +1,4 @@
-"""Promises 7 to 9: every name of the interface, its arguments, and the file in which it is defined."""
+"""Promises 7 to 16: every name of the interface, its arguments, and the file in which it is defined."""
 
 import importlib
 import inspect
@@ -25,6 +25,61 @@ FUNCTIONS = {
         "named_fields": ["sizes", "form"],
         "ordered_tree": ["sizes", "form"],
         "fixed": ["sizes", "form", "half"],
+    },
+    "leastreasons.reasons": {
+        "forces": ["sizes", "form", "case", "fields"],
+        "can_turn": ["sizes", "form", "case", "fields"],
+        "reasons": ["sizes", "form", "case"],
+        "turns": ["sizes", "form", "case"],
+        "needed": ["sizes", "form", "case"],
+        "idle": ["sizes", "form", "case"],
+        "reason_by": ["sizes", "form", "case", "order"],
+        "turned_case": ["sizes", "form", "case", "fields"],
+        "reason_cases": ["sizes", "form", "case", "fields"],
+        "shows_reason": ["sizes", "form", "case", "fields", "value"],
+        "shows_turn": ["sizes", "form", "case", "value"],
+        "distance": ["sizes", "form", "case"],
+        "cheapest_reason": ["sizes", "form", "case", "costs"],
+        "cheapest_turn": ["sizes", "form", "case", "costs"],
+    },
+    "leastreasons.families": {
+        "least_sets": ["size", "family"],
+        "meeting": ["size", "family"],
+        "meets_all": ["size", "family", "members"],
+        "joined": ["size", "one_family", "other_family"],
+        "paired": ["size", "one_family", "other_family"],
+        "dropped": ["size", "family", "members"],
+        "taken": ["size", "family", "members"],
+        "in_some": ["size", "family"],
+        "in_all": ["size", "family"],
+        "count_meeting": ["size", "family"],
+        "shortest_meeting": ["size", "family"],
+        "apart": ["size", "family"],
+    },
+    "leastreasons.trees": {
+        "ways": ["sizes", "tree"],
+        "trimmed": ["sizes", "tree"],
+        "tree_forces": ["sizes", "tree", "case", "fields"],
+        "tree_turns": ["sizes", "tree", "case"],
+        "tree_reason": ["sizes", "tree", "case", "order"],
+        "count_tree_yes": ["sizes", "tree"],
+        "nth_tree_yes": ["sizes", "tree", "index"],
+        "grafted": ["sizes", "tree", "upper", "lower"],
+    },
+    "leastreasons.cards": {
+        "card_sum": ["sizes", "card", "case"],
+        "slack": ["sizes", "card", "case"],
+        "drops": ["sizes", "card", "case"],
+        "sum_range": ["sizes", "card"],
+        "card_forces": ["sizes", "card", "case", "fields"],
+        "shortest_card_reason": ["sizes", "card", "case"],
+        "shortest_card_turn": ["sizes", "card", "case"],
+        "count_card_reasons": ["sizes", "card", "case"],
+        "count_card_turns": ["sizes", "card", "case"],
+        "count_card_yes": ["sizes", "card"],
+        "nth_card_yes": ["sizes", "card", "index"],
+        "card_fields": ["sizes", "card"],
+        "lowered": ["sizes", "card"],
     },
 }
 

@@ -1,6 +1,7 @@
 """The rules of the language subset that can be seen from the code alone, over every file of the package."""
 
 import ast
+import builtins
 import pathlib
 import re
 import unittest
@@ -11,6 +12,16 @@ NO_NAMES = {
     "register", "mro", "elements", "open", "input", "law", "version_info", "with_traceback", "add_note",
     "typing", "enum", "Enum", "dataclass", "overload", "contextmanager", "abstractmethod", "namedtuple", "eval", "exec",
     "globals", "locals", "vars", "id", "hash", "filter", "compile", "dir", "help", "exit", "quit",
+}
+BUILTINS = {
+    "len", "range", "enumerate", "zip", "min", "max", "sum", "abs", "sorted", "reversed", "int", "str", "bool", "list",
+    "tuple", "dict", "set", "isinstance", "ord", "repr", "any", "all", "divmod", "super", "ValueError",
+}
+METHODS = {
+    "append", "clear", "copy", "count", "endswith", "extend", "find", "get", "index", "insert", "isalnum", "isalpha",
+    "isdigit", "islower", "isspace", "isupper", "items", "join", "keys", "ljust", "lower", "lstrip", "partition", "pop",
+    "remove", "replace", "reverse", "rfind", "rjust", "rpartition", "rsplit", "rstrip", "setdefault", "split",
+    "splitlines", "startswith", "strip", "update", "upper", "values", "zfill", "bit_length", "__init__",
 }
 MODULE_LEVEL = (ast.ImportFrom, ast.FunctionDef, ast.ClassDef, ast.Assign)
 NO_STATEMENTS = (ast.AsyncFunctionDef, ast.AsyncFor, ast.AsyncWith, ast.Import, ast.TryStar, ast.Await, ast.Div)
@@ -92,6 +103,29 @@ class StatementsTest(unittest.TestCase):
                 self.assertNotIn(name, NO_NAMES, where)
                 if isinstance(node, ast.Constant):
                     self.assertNotIsInstance(node.value, (float, complex), where)
+
+    def test_no_other_builtins_and_methods(self):
+        for path, tree in modules():
+            for node in ast.walk(tree):
+                where = (path, getattr(node, "lineno", None))
+                if isinstance(node, ast.Name) and hasattr(builtins, node.id):
+                    self.assertIn(node.id, BUILTINS, where)
+                    self.assertIsInstance(node.ctx, ast.Load, where)
+                if isinstance(node, ast.arg):
+                    self.assertFalse(hasattr(builtins, node.arg), where)
+                if isinstance(node, ast.Call) and isinstance(node.func, ast.Attribute):
+                    self.assertIn(node.func.attr, METHODS, where)
+
+    def test_no_name_of_an_import_is_given_another_meaning(self):
+        for path, tree in modules():
+            imported = {name.name for node in tree.body if isinstance(node, ast.ImportFrom) for name in node.names}
+            used = {node.id for node in ast.walk(tree) if isinstance(node, ast.Name)}
+            self.assertLessEqual(imported, used, path)
+            for node in ast.walk(tree):
+                if isinstance(node, ast.Name) and isinstance(node.ctx, ast.Store):
+                    self.assertNotIn(node.id, imported, (path, node.lineno))
+                if isinstance(node, ast.arg):
+                    self.assertNotIn(node.arg, imported, (path, node.lineno))
 
 
 if __name__ == "__main__":
