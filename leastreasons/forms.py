@@ -1,6 +1,6 @@
 """Forms: what they answer, what stands in them, and the ordered tree of each."""
 
-from leastreasons.errors import InvalidForm
+from leastreasons.errors import InvalidAnswer, InvalidForm
 from leastreasons.shapes import JOINING_WORDS, all_forms, has_form_shape, has_plain_tree_shape, inner_forms
 from leastreasons.sheets import check_case, check_half, check_sizes, check_small, list_completing, place_of_case
 
@@ -23,6 +23,12 @@ def check_form(sizes, form):
         raise InvalidForm("this is not a form of the sheet")
 
 
+def check_answer(result):
+    """Raise InvalidAnswer unless any value is an answer."""
+    if not isinstance(result, bool):
+        raise InvalidAnswer("an answer is True or False")
+
+
 def answer(sizes, form, case):
     """The answer of the form for the case."""
     check_sizes(sizes)
@@ -36,7 +42,7 @@ def answers(sizes, form):
     check_sizes(sizes)
     check_form(sizes, form)
     check_small(sizes)
-    return tuple(answers_completing(sizes, form, [None] * len(sizes)))
+    return tuple(all_answers(sizes, form))
 
 
 def measure(sizes, form):
@@ -102,6 +108,11 @@ def sum_of_weights(weights, case):
 def answers_completing(sizes, form, half):
     """The list of the answers for the cases that complete a half case, for arguments that are checked."""
     return [says(sizes, form, case) for case in list_completing(sizes, half)]
+
+
+def all_answers(sizes, form):
+    """The list of the answers for all cases, ascending, for arguments that are checked."""
+    return answers_completing(sizes, form, [None] * len(sizes))
 
 
 def ordered_tree_completing(sizes, form, half):

@@ -1,6 +1,7 @@
 """Sheets and their cases: what they are, how they are numbered, and which ones complete a half case."""
 
-from leastreasons.errors import InvalidCase, InvalidFields, InvalidHalf, InvalidIndex, InvalidSizes, NotSmall
+from leastreasons.errors import (InvalidCase, InvalidField, InvalidFields, InvalidHalf, InvalidIndex, InvalidSizes,
+                                 NotSmall)
 from leastreasons.kinds import are_ascending_below, is_integer, is_integer_below
 
 MOST_FIELDS = 24
@@ -44,6 +45,12 @@ def check_half(sizes, half):
     """Raise InvalidHalf unless any value is a half case of the sheet."""
     if not is_half_case(sizes, half):
         raise InvalidHalf("a half case is a list with one of its values or None for each field")
+
+
+def check_field(sizes, field):
+    """Raise InvalidField unless any value is a field of the sheet."""
+    if not is_integer_below(field, len(sizes)):
+        raise InvalidField("a field is an integer from 0 on, less than the number of sizes")
 
 
 def check_fields(sizes, fields):
@@ -92,6 +99,16 @@ def place_of_case(sizes, case):
     return place
 
 
+def case_of_place(sizes, place):
+    """The case with an index in ascending order, for arguments that are checked."""
+    case = [0] * len(sizes)
+    rest = place
+    for at in reversed(range(len(sizes))):
+        case[at] = rest % sizes[at]
+        rest = rest // sizes[at]
+    return case
+
+
 def list_completing(sizes, half):
     """The ascending list of the cases that complete a half case, for arguments that are checked."""
     cases = [[]]
@@ -137,12 +154,7 @@ def nth_case(sizes, index):
     """The case with an index in ascending order."""
     check_sizes(sizes)
     check_index(index, number_of_cases(sizes))
-    case = [0] * len(sizes)
-    rest = index
-    for at in reversed(range(len(sizes))):
-        case[at] = rest % sizes[at]
-        rest = rest // sizes[at]
-    return case
+    return case_of_place(sizes, index)
 
 
 def case_index(sizes, case):

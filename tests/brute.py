@@ -2,7 +2,7 @@
 
 import itertools
 
-from tests.reference import all_cases, some_form, told
+from tests.reference import all_cases, all_halves, completes, some_form, told
 
 
 def sets_below(size):
@@ -115,3 +115,32 @@ def some_case(source, sizes):
 def some_forms(source, sizes, number):
     """Forms of any kind, most of which have both answers."""
     return [some_form(source, sizes, source.randrange(1, 5)) for _ in range(number)]
+
+
+def primes_tried(sizes, form, result):
+    """The prime rules for an answer, found by trying every tuple of conditions with one value each."""
+    results = {tuple(case): told(sizes, form, case) for case in all_cases(sizes)}
+    forcing = set()
+    for half in all_halves(sizes):
+        rule = tuple((field, value) for field, value in enumerate(half) if value is not None)
+        if {results[tuple(case)] for case in all_cases(sizes) if completes(case, half)} == {result}:
+            forcing.add(rule)
+    found = [rule for rule in forcing if not any(rule[:at] + rule[at + 1:] in forcing for at in range(len(rule)))]
+    return sorted(found, key=lambda rule: (len(rule), rule))
+
+
+def every_plan(sizes, form, half):
+    """All plans that ask for unknown fields until the answer is sure."""
+    results = {told(sizes, form, case) for case in all_cases(sizes) if completes(case, half)}
+    if len(results) == 1:
+        return [("say", *results)]
+    found = []
+    for field in [field for field, value in enumerate(half) if value is None]:
+        behind = [every_plan(sizes, form, [*half[:field], value, *half[field + 1:]]) for value in range(sizes[field])]
+        found += [("tree", field, branches) for branches in itertools.product(*behind)]
+    return found
+
+
+def most_asks(plan):
+    """How many questions a plan asks in its worst case."""
+    return 0 if plan[0] == "say" else 1 + max(most_asks(branch) for branch in plan[2])

@@ -1,30 +1,42 @@
 """A call of each function of the interface, and wrong values for each argument, each with its error."""
 
-from leastreasons import cards, errors, families, forms, reasons, sheets, trees
+from leastreasons import asking, cards, compare, errors, families, forms, reasons, rules, sheets, trees
 from tests.reference import NO, YES
 
 SIZES = [2, 3]
 FORM = ("tree", 0, (("is", 1, (0, 2)), YES))
 TREE = ("tree", 0, (("tree", 1, (NO, YES, NO)), YES))
 CARD = ("card", ((0, 2), (-1, 0, 1)), 1)
+RULES = ("rules", ((((0, (0,)), (1, (0, 2))), True), (((1, (1,)),), False), ((), True)), False)
 
 # Sheets of two and of twelve fields have the same wrong values, so that each of these can stand in any call.
 WRONG_FORMS = [None, YES[:1], ["say", True], ("say", 1), ("is", 99, ()), ("and", (YES, 0)), "say"]
 WRONG_TREES = [(errors.InvalidForm, WRONG_FORMS), (errors.NoTree, [("not", YES), FORM, ("tree", 0, (YES, ("or", ())))])]
 WRONG_FAMILIES = [None, ([0],), [(0,)], [0], [[-1]], [[10]], [[0, 0]], [[2, 1]], [[True]], ["0"], [[]] * 301, "[]", 0]
+WRONG_CONDITIONS = [
+    None, [], [(0, (0,))], (0, (0,)), ((0, (0,)), (0, (1,))), ((1, (0,)), (0, (0,))), ((0, (1, 0)),), ((0, (0, 0)),),
+    ((0, (True,)),), ((False, (0,)),), ((12, ()),), ((-1, ()),), ((0, (7,)),), ((0,),), ((0, (0,), True),), ((0, 0),),
+    ([0, (0,)],), ((0, [0]),), (((0, (0,)),), True), "", 0, True,
+]
 WRONG = {
     "sizes": [(errors.InvalidSizes, [None, (2, 3), [2, 7], [2, True], "2", [2] * 25, [[2, 3]]])],
     "form": [(errors.InvalidForm, WRONG_FORMS)],
+    "one": [(errors.InvalidForm, WRONG_FORMS)],
+    "other": [(errors.InvalidForm, WRONG_FORMS)],
     "tree": WRONG_TREES,
     "upper": WRONG_TREES,
     "lower": WRONG_TREES,
     "card": [(errors.InvalidForm, WRONG_FORMS), (errors.NoCard, [YES, FORM, ("not", YES), ("and", ())])],
+    "rules": [(errors.InvalidForm, WRONG_FORMS), (errors.NoRules, [YES, ("not", ("rules", (), True)), ("and", ())])],
     "case": [(errors.InvalidCase, [None, (0, 0), [0], [0, 3, 0], [0, None], [True, 0], [-1, 0], [[0], 0], "00", 0])],
     "second_case": [(errors.InvalidCase, [None, (1, 1), [], [0, "0"], [0, None], [0, False], [0, -1], [2, 0], 1])],
     "half": [(errors.InvalidHalf, [None, (None, 0), [None], [None] * 3, [0, False], [None, -1], ["?", 0], [6, 0], 0])],
+    "field": [(errors.InvalidField, [None, -1, 12, 10 ** 31 - 1, True, False, "0", [0], (0,), ()])],
     "fields": [(errors.InvalidFields, [None, (0,), [1, 0], [0, 0], [-1], [12], [True], [0, None], ["0"], [[0]], "0", 0])],
     "order": [(errors.InvalidFields, [None, (0, 1), [], [0], [0, 0], [0, True], [-1, 0], [1, 2, 0], [[0], 1], "01", 0])],
     "costs": [(errors.InvalidCosts, [None, (1, 1), [1], [0, -1], [0, 10 ** 9 + 1], [0, True], [None, 0], [[0], 0], "00"])],
+    "result": [(errors.InvalidAnswer, [None, 0, 1, "True", "yes", (True,), [False], YES])],
+    "conditions": [(errors.InvalidConditions, WRONG_CONDITIONS)],
     "index": [(errors.InvalidIndex, [None, -1, 10 ** 31 - 1, True, False, "0", [0], (0,)])],
     "size": [(errors.InvalidIndex, [None, -1, 11, 10 ** 31 - 1, True, False, "3", [3], (3,)])],
     "family": [(errors.InvalidFamily, WRONG_FAMILIES)],
@@ -40,7 +52,12 @@ RIGHT = {
     "tree": [YES],
     "upper": [YES],
     "lower": [YES],
+    "one": [YES],
+    "other": [YES],
+    "field": [0, 1],
     "fields": [[], [0], [1]],
+    "result": [True, False],
+    "conditions": [()],
     "index": [0, 1, 2],
     "size": [0, 1, 2],
     "family": [[], [[]]],
@@ -55,6 +72,7 @@ BIG_SIZES = [2] * 12
 BIG_FORM = ("or", (("is", 11, (1,)), ("tree", 0, (NO, YES))))
 BIG_TREE = ("tree", 11, (("tree", 3, (NO, ("tree", 0, (NO, YES)))), YES))
 BIG_CARD = ("card", ((0, 1), (2, -2), (3, 3)) * 4, 12)
+BIG_RULES = ("rules", ((((0, (0,)), (11, (0, 1))), True), (((1, (1,)),), False), ((), True)), False)
 BIG_ORDER = [*range(5, 12), *range(5)]
 ANY_SHEET = False
 SMALL_SHEET = True
@@ -166,4 +184,50 @@ OF_CARDS = [
     with_card(cards.lowered),
 ]
 
-FUNCTIONS = [*OF_SHEETS, *OF_FORMS, *OF_REASONS, *OF_FAMILIES, *OF_TREES, *OF_CARDS]
+OF_RULES = [
+    (rules.fitting, ["sizes", "conditions"], [SIZES, ((0, (1,)), (1, (0, 2)))], [BIG_SIZES, ((11, ()),)], SMALL_SHEET),
+    (rules.used_rules, ["sizes", "rules"], [SIZES, RULES], [BIG_SIZES, BIG_RULES], SMALL_SHEET),
+    (rules.spare_rules, ["sizes", "rules"], [SIZES, RULES], [BIG_SIZES, BIG_RULES], SMALL_SHEET),
+    (rules.prime_rules, ["sizes", "form", "result"], [SIZES, FORM, False], [BIG_SIZES, BIG_FORM, True], SMALL_SHEET),
+    (rules.needed_rules, ["sizes", "form", "result"], [SIZES, FORM, True], [BIG_SIZES, BIG_FORM, False], SMALL_SHEET),
+    (rules.rules_of, ["sizes", "form"], [SIZES, FORM], [BIG_SIZES, BIG_FORM], SMALL_SHEET),
+]
+
+
+def with_form_and_half(function):
+    """A call of a function of a form and a half case."""
+    return (function, ["sizes", "form", "half"], [SIZES, FORM, [0, None]], [BIG_SIZES, BIG_FORM, [0] * 12], SMALL_SHEET)
+
+
+OF_ASKING = [
+    with_form_and_half(asking.sure),
+    with_form_and_half(asking.outlook),
+    (asking.greatest_reason, ["sizes", "form", "result"], [SIZES, FORM, True], [BIG_SIZES, BIG_FORM, False],
+     SMALL_SHEET),
+    with_form_and_half(asking.fewest_asks),
+    with_form_and_half(asking.first_asks),
+    with_form_and_half(asking.ask_plan),
+]
+
+
+def with_two_forms(function):
+    """A call of a function of two forms."""
+    return (function, ["sizes", "one", "other"], [SIZES, FORM, TREE], [BIG_SIZES, BIG_FORM, BIG_TREE], SMALL_SHEET)
+
+
+OF_COMPARE = [
+    with_two_forms(compare.alike),
+    with_two_forms(compare.within),
+    with_two_forms(compare.parting_case),
+    with_two_forms(compare.count_parted),
+    (compare.count_yes, ["sizes", "form"], [SIZES, FORM], [BIG_SIZES, BIG_FORM], SMALL_SHEET),
+    (compare.nth_yes, ["sizes", "form", "index"], [SIZES, FORM, 4], [BIG_SIZES, BIG_FORM, 0], SMALL_SHEET),
+    (compare.yes_index, ["sizes", "form", "case"], [SIZES, FORM, [0, 2]], [BIG_SIZES, BIG_FORM, [1] * 12], SMALL_SHEET),
+    (compare.mattering, ["sizes", "form"], [SIZES, FORM], [BIG_SIZES, BIG_FORM], SMALL_SHEET),
+    (compare.swings, ["sizes", "form"], [SIZES, FORM], [BIG_SIZES, BIG_FORM], SMALL_SHEET),
+    (compare.rises, ["sizes", "form", "field"], [SIZES, FORM, 1], [BIG_SIZES, BIG_FORM, 11], SMALL_SHEET),
+]
+
+FUNCTIONS = [
+    *OF_SHEETS, *OF_FORMS, *OF_REASONS, *OF_FAMILIES, *OF_TREES, *OF_CARDS, *OF_RULES, *OF_ASKING, *OF_COMPARE,
+]

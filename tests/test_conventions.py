@@ -5,9 +5,9 @@ import importlib
 import itertools
 import unittest
 
-from leastreasons import errors, forms, reasons, sheets
+from leastreasons import compare, errors, forms, reasons, sheets
 from tests.calls import FORM, FUNCTIONS, RIGHT, SIZES, WRONG
-from tests.reference import ANY_VALUES, YES, called, nested, refused
+from tests.reference import ANY_VALUES, NO, YES, called, nested, refused
 from tests.test_interface import FUNCTIONS as INTERFACE
 
 
@@ -23,6 +23,13 @@ def spoil(value):
     """Change all lists in a value."""
     for part in lists_in(value):
         part.append(9)
+
+
+def first_error(names, wrong, not_small):
+    """The error that comes first, if each argument is wrong in some way or right, and the sheet perhaps not small."""
+    ahead = [pair[0] for name, pair in zip(names, wrong) if pair is not None and name != "index"]
+    behind = [pair[0] for name, pair in zip(names, wrong) if pair is not None and name == "index"]
+    return [*ahead, *([errors.NotSmall] if not_small else []), *behind][0]
 
 
 class CallsTest(unittest.TestCase):
@@ -46,7 +53,7 @@ class ErrorsOfArgumentsTest(unittest.TestCase):
                         refused(self, error, function, *passed[:at], value, *passed[at + 1:])
 
     def test_several_arguments_in_the_order_of_the_signature(self):
-        for function, names, small, big, _ in FUNCTIONS:
+        for function, names, small, big, needs_small in FUNCTIONS:
             for passed in (small, big):
                 for wrong in itertools.product(*[[None, *WRONG[name]] for name in names]):
                     if any(wrong):
@@ -54,8 +61,7 @@ class ErrorsOfArgumentsTest(unittest.TestCase):
                         for at, pair in enumerate(wrong):
                             if pair is not None:
                                 spoilt[at] = pair[1][0]
-                        first = next(pair for pair in wrong if pair is not None)
-                        refused(self, first[0], function, *spoilt)
+                        refused(self, first_error(names, wrong, needs_small and passed == big), function, *spoilt)
 
     def test_a_call_that_raises_an_error_changes_nothing(self):
         for function, names, small, big, needs_small in FUNCTIONS:
@@ -75,7 +81,9 @@ class ErrorsOfArgumentsTest(unittest.TestCase):
                 for at, name in enumerate(names):
                     for error, values in WRONG[name]:
                         for value in values:
-                            refused(self, error, function, *big[:at], value, *big[at + 1:])
+                            # An index is looked at behind that.
+                            first = errors.NotSmall if name == "index" else error
+                            refused(self, first, function, *big[:at], value, *big[at + 1:])
 
     def test_not_small_behind_the_arguments(self):
         for function, _, _, big, needs_small in FUNCTIONS:
@@ -90,14 +98,19 @@ class ErrorsOfArgumentsTest(unittest.TestCase):
         refused(self, errors.NoReason, reasons.reason_cases, sizes[1:], YES, case[1:], [0, 1])
         refused(self, errors.NotSmall, reasons.cheapest_turn, sizes, YES, case, case)
         refused(self, errors.NoTurn, reasons.cheapest_turn, sizes[1:], YES, case[1:], case[1:])
+        refused(self, errors.NotSmall, compare.yes_index, sizes, NO, case)
+        refused(self, errors.NotYes, compare.yes_index, sizes[1:], NO, case[1:])
+        refused(self, errors.NotSmall, compare.nth_yes, sizes, NO, 0)
+        refused(self, errors.NotSmall, compare.nth_yes, sizes, NO, None)
+        refused(self, errors.InvalidIndex, compare.nth_yes, sizes[1:], NO, 0)
 
     def test_values_of_every_kind(self):
         for function, names, passed, _, _ in FUNCTIONS:
             for at, name in enumerate(names):
                 right = [repr(value) for value in RIGHT.get(name, [])]
                 for value in ANY_VALUES:
-                    # Only the values of one kind of wrong trees and cards are forms at all.
-                    error = WRONG[name][1 if name == "card" and value == YES else 0][0]
+                    # Of these values only a form "say" is a form, but neither a card nor a list of rules.
+                    error = WRONG[name][1 if name in ("card", "rules") and value == YES else 0][0]
                     if repr(value) not in right:
                         refused(self, error, function, *passed[:at], value, *passed[at + 1:])
 

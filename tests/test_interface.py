@@ -1,4 +1,4 @@
-"""Promises 7 to 16: every name of the interface, its arguments, and the file in which it is defined."""
+"""Promises 7 to 19: every name of the interface, its arguments, and the file in which it is defined."""
 
 import importlib
 import inspect
@@ -80,6 +80,34 @@ FUNCTIONS = {
         "nth_card_yes": ["sizes", "card", "index"],
         "card_fields": ["sizes", "card"],
         "lowered": ["sizes", "card"],
+    },
+    "leastreasons.rules": {
+        "fitting": ["sizes", "conditions"],
+        "used_rules": ["sizes", "rules"],
+        "spare_rules": ["sizes", "rules"],
+        "prime_rules": ["sizes", "form", "result"],
+        "needed_rules": ["sizes", "form", "result"],
+        "rules_of": ["sizes", "form"],
+    },
+    "leastreasons.asking": {
+        "sure": ["sizes", "form", "half"],
+        "outlook": ["sizes", "form", "half"],
+        "greatest_reason": ["sizes", "form", "result"],
+        "fewest_asks": ["sizes", "form", "half"],
+        "first_asks": ["sizes", "form", "half"],
+        "ask_plan": ["sizes", "form", "half"],
+    },
+    "leastreasons.compare": {
+        "alike": ["sizes", "one", "other"],
+        "within": ["sizes", "one", "other"],
+        "parting_case": ["sizes", "one", "other"],
+        "count_parted": ["sizes", "one", "other"],
+        "count_yes": ["sizes", "form"],
+        "nth_yes": ["sizes", "form", "index"],
+        "yes_index": ["sizes", "form", "case"],
+        "mattering": ["sizes", "form"],
+        "swings": ["sizes", "form"],
+        "rises": ["sizes", "form", "field"],
     },
 }
 
