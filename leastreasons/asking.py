@@ -4,7 +4,7 @@ from leastreasons.errors import NotSmall
 from leastreasons.forms import answers_completing, check_answer, check_form
 from leastreasons.kinds import ascending_numbers
 from leastreasons.rules import find_prime_rules, places_of_rule
-from leastreasons.sheets import check_half, check_sizes, check_small, number_of_cases
+from leastreasons.sheets import check_half, check_sizes, check_small, number_of_cases, unknown_fields
 
 MOST_HALVES_OF_ASKABLE = 2500
 
@@ -54,7 +54,7 @@ def first_asks(sizes, form, half):
     _check_form_and_half(sizes, form, half)
     _check_askable(sizes, half)
     open_sizes = _sizes_of_unknown(sizes, half)
-    unknown = _unknown_fields(half)
+    unknown = unknown_fields(half)
     _, asks = _tell_asks(open_sizes, answers_completing(sizes, form, half))
     return [unknown[at] for at in _best_asks(open_sizes, asks, len(asks) - 1)]
 
@@ -65,7 +65,7 @@ def ask_plan(sizes, form, half):
     _check_askable(sizes, half)
     open_sizes = _sizes_of_unknown(sizes, half)
     states, asks = _tell_asks(open_sizes, answers_completing(sizes, form, half))
-    return _plan_from(_unknown_fields(half), open_sizes, states, asks, len(asks) - 1)
+    return _plan_from(unknown_fields(half), open_sizes, states, asks, len(asks) - 1)
 
 
 def sure_answer(sizes, form, half):
@@ -90,14 +90,9 @@ def _check_askable(sizes, half):
         raise NotSmall("the product of size + 1 over the unknown fields is more than 2,500")
 
 
-def _unknown_fields(half):
-    """The list of the unknown fields of a half case."""
-    return [field for field in range(len(half)) if half[field] is None]
-
-
 def _sizes_of_unknown(sizes, half):
     """The sizes of the unknown fields of a half case."""
-    return [sizes[field] for field in _unknown_fields(half)]
+    return [sizes[field] for field in unknown_fields(half)]
 
 
 def _common_state(states):

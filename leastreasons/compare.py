@@ -1,7 +1,7 @@
 """Comparing and counting: where two forms differ, the cases with yes, and what each field does to the answers."""
 
 from leastreasons.errors import NotYes
-from leastreasons.forms import all_answers, check_form, says
+from leastreasons.forms import all_answers, check_form, check_small_form, says
 from leastreasons.sheets import (case_of_place, check_case, check_field, check_index, check_sizes, check_small,
                                  place_of_case)
 
@@ -33,15 +33,13 @@ def count_parted(sizes, one, other):
 
 def count_yes(sizes, form):
     """How many cases say yes."""
-    _check_sizes_and_form(sizes, form)
-    check_small(sizes)
+    check_small_form(sizes, form)
     return len(yes_places(sizes, form))
 
 
 def nth_yes(sizes, form, index):
     """The case with an index among those that say yes, in ascending order."""
-    _check_sizes_and_form(sizes, form)
-    check_small(sizes)
+    check_small_form(sizes, form)
     places = yes_places(sizes, form)
     check_index(index, len(places))
     return case_of_place(sizes, places[index])
@@ -49,7 +47,8 @@ def nth_yes(sizes, form, index):
 
 def yes_index(sizes, form, case):
     """The index of a case among those that say yes, in ascending order."""
-    _check_sizes_and_form(sizes, form)
+    check_sizes(sizes)
+    check_form(sizes, form)
     check_case(sizes, case)
     check_small(sizes)
     if not says(sizes, form, case):
@@ -59,22 +58,21 @@ def yes_index(sizes, form, case):
 
 def mattering(sizes, form):
     """The list of the fields that alone can turn in some case."""
-    _check_sizes_and_form(sizes, form)
-    check_small(sizes)
+    check_small_form(sizes, form)
     swung = _count_swings(sizes, form)
     return [field for field in range(len(sizes)) if swung[field] > 0]
 
 
 def swings(sizes, form):
     """The list with, for each field, the number of the cases in which it alone can turn."""
-    _check_sizes_and_form(sizes, form)
-    check_small(sizes)
+    check_small_form(sizes, form)
     return _count_swings(sizes, form)
 
 
 def rises(sizes, form, field):
     """Whether a greater value of the field, all others unchanged, never turns yes to no."""
-    _check_sizes_and_form(sizes, form)
+    check_sizes(sizes)
+    check_form(sizes, form)
     check_field(sizes, field)
     check_small(sizes)
     return not any([_falls(line) for line in _lines_of(sizes, all_answers(sizes, form), field)])
@@ -96,12 +94,6 @@ def yes_places(sizes, form):
     """The list of the indexes of the cases that say yes, ascending, for arguments that are checked."""
     results = all_answers(sizes, form)
     return [place for place in range(len(results)) if results[place]]
-
-
-def _check_sizes_and_form(sizes, form):
-    """Raise the error of the first of these arguments that is wrong."""
-    check_sizes(sizes)
-    check_form(sizes, form)
 
 
 def _check_both(sizes, one, other):

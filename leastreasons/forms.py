@@ -2,7 +2,8 @@
 
 from leastreasons.errors import InvalidAnswer, InvalidForm
 from leastreasons.shapes import JOINING_WORDS, all_forms, has_form_shape, has_plain_tree_shape, inner_forms
-from leastreasons.sheets import check_case, check_half, check_sizes, check_small, list_completing, place_of_case
+from leastreasons.sheets import (check_case, check_half, check_sizes, check_small, list_completing, place_of_case,
+                                 unknown_fields)
 
 
 def is_form(sizes, value):
@@ -23,6 +24,13 @@ def check_form(sizes, form):
         raise InvalidForm("this is not a form of the sheet")
 
 
+def check_small_form(sizes, form):
+    """Raise the error of the first of these arguments that is wrong, or NotSmall."""
+    check_sizes(sizes)
+    check_form(sizes, form)
+    check_small(sizes)
+
+
 def check_answer(result):
     """Raise InvalidAnswer unless any value is an answer."""
     if not isinstance(result, bool):
@@ -39,9 +47,7 @@ def answer(sizes, form, case):
 
 def answers(sizes, form):
     """The tuple of the answers for all cases, ascending."""
-    check_sizes(sizes)
-    check_form(sizes, form)
-    check_small(sizes)
+    check_small_form(sizes, form)
     return tuple(all_answers(sizes, form))
 
 
@@ -69,9 +75,7 @@ def named_fields(sizes, form):
 
 def ordered_tree(sizes, form):
     """The plain tree with the same answers that tests ascending fields, and none without need."""
-    check_sizes(sizes)
-    check_form(sizes, form)
-    check_small(sizes)
+    check_small_form(sizes, form)
     return ordered_tree_completing(sizes, form, [None] * len(sizes))
 
 
@@ -118,9 +122,8 @@ def all_answers(sizes, form):
 def ordered_tree_completing(sizes, form, half):
     """The ordered tree over the unknown fields of a half case, for arguments that are checked."""
     trees = [("say", result) for result in answers_completing(sizes, form, half)]
-    unknown = [at for at in range(len(sizes)) if half[at] is None]
     # Cases that differ in the last unknown field alone are neighbours; joining them leaves the field before it last.
-    for field in unknown[::-1]:
+    for field in unknown_fields(half)[::-1]:
         size = sizes[field]
         trees = [tested(field, tuple(trees[at:at + size])) for at in range(0, len(trees), size)]
     return trees[0]

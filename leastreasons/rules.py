@@ -1,7 +1,7 @@
 """Rules: which ones are used or spare, and all shortest rules of a form."""
 
 from leastreasons.errors import InvalidConditions, NoRules
-from leastreasons.forms import all_answers, check_answer, check_form, fits
+from leastreasons.forms import all_answers, check_answer, check_form, check_small_form, fits
 from leastreasons.shapes import is_conditions
 from leastreasons.sheets import check_sizes, check_small, list_completing, number_of_cases, place_of_case
 
@@ -59,18 +59,20 @@ def needed_rules(sizes, form, result):
 
 def rules_of(sizes, form):
     """The form "rules" with the prime rules for yes."""
-    check_sizes(sizes)
-    check_form(sizes, form)
-    check_small(sizes)
+    check_small_form(sizes, form)
     found = find_prime_rules(sizes, form, True)
     return ("rules", tuple([(tuple([(field, (value,)) for field, value in rule]), True) for rule in found]), False)
 
 
 def find_prime_rules(sizes, form, result):
     """The list of the prime rules for an answer in their sequence, for arguments that are checked."""
-    wanted = [told == result for told in all_answers(sizes, form)]
+    return primes_of_answers(sizes, all_answers(sizes, form), result)
+
+
+def primes_of_answers(sizes, results, result):
+    """The list of the prime rules for an answer in their sequence, if the cases, ascending, have these results."""
     # Those of the same length are found in ascending order, and stay in it.
-    return sorted(_find_primes_from(sizes, 0, wanted), key=len)
+    return sorted(_find_primes_from(sizes, 0, [told == result for told in results]), key=len)
 
 
 def places_of_rule(sizes, rule):

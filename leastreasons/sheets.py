@@ -109,6 +109,11 @@ def case_of_place(sizes, place):
     return case
 
 
+def unknown_fields(half):
+    """The list of the unknown fields of a half case."""
+    return [field for field in range(len(half)) if half[field] is None]
+
+
 def list_completing(sizes, half):
     """The ascending list of the cases that complete a half case, for arguments that are checked."""
     cases = [[]]

@@ -1,6 +1,6 @@
 """A call of each function of the interface, and wrong values for each argument, each with its error."""
 
-from leastreasons import asking, cards, compare, errors, families, forms, reasons, rules, sheets, trees
+from leastreasons import asking, cards, compare, errors, families, forms, reasons, rules, sheets, texts, trees
 from tests.reference import NO, YES
 
 SIZES = [2, 3]
@@ -228,6 +228,15 @@ OF_COMPARE = [
     (compare.rises, ["sizes", "form", "field"], [SIZES, FORM, 1], [BIG_SIZES, BIG_FORM, 11], SMALL_SHEET),
 ]
 
+BIG_CASE_TEXT = "0 1 ? 1 0 1 ? ? 0 0 1 1"
+OF_TEXTS = [
+    (texts.write_form, ["sizes", "form"], [SIZES, FORM], [BIG_SIZES, BIG_FORM], ANY_SHEET),
+    (texts.read_form, ["sizes"], [SIZES, "not is 1 0,2"], [BIG_SIZES, "is 11 -"], ANY_SHEET),
+    (texts.write_case, ["sizes", "half"], [SIZES, [None, 2]], [BIG_SIZES, [None] * 12], ANY_SHEET),
+    (texts.read_case, ["sizes"], [SIZES, "? 2"], [BIG_SIZES, BIG_CASE_TEXT], ANY_SHEET),
+]
+
 FUNCTIONS = [
     *OF_SHEETS, *OF_FORMS, *OF_REASONS, *OF_FAMILIES, *OF_TREES, *OF_CARDS, *OF_RULES, *OF_ASKING, *OF_COMPARE,
+    *OF_TEXTS,
 ]

@@ -5,6 +5,9 @@ import inspect
 import itertools
 import random
 
+from leastreasons.console import Console
+from leastreasons.deciders import CountingNotingDecider, Decider
+from leastreasons.desks import Desk
 from leastreasons.errors import InvalidText, ReasonError
 
 YES = ("say", True)
@@ -25,6 +28,8 @@ ANY_VALUES = [
     ([],), [None], [True], [False], ["2"], [0], [1], [2, [2]], [2, None], [2, True], (2, 2), [7], [-2],
     [10 ** 31 - 1], nested(list, 40), nested(tuple, 40), [2] * 100_000, (2,) * 100_000, ReasonError("odd"),
     InvalidText(2), [ReasonError("odd")], (InvalidText(2),), ("say",), ("say", True), ["say", True],
+    Console(), Decider([2], YES), CountingNotingDecider([], NO), Desk([2], YES), [Decider([2], YES)], (Desk([2], NO),),
+    [Decider([2], NO), 0], [0, Desk([], YES)], ("not", Decider([2], YES)), ("say", Desk([2], YES)), (Decider([2], YES),) * 2,
 ]
 
 
@@ -150,3 +155,11 @@ def refused(test, error, function, *passed):
         with test.assertRaises(ReasonError, msg=shown) as caught:
             call()
         test.assertIs(caught.exception.__class__, error, shown)
+
+
+def raises(test, error, call, *passed, **named):
+    """See that a call raises exactly this error, and give it."""
+    with test.assertRaises(ReasonError, msg=str(passed)[:300]) as caught:
+        call(*passed, **named)
+    test.assertIs(caught.exception.__class__, error, str(passed)[:300])
+    return caught.exception

@@ -39,7 +39,7 @@ class CallsTest(unittest.TestCase):
         for function, names, small, big, _ in FUNCTIONS:
             parameters = INTERFACE[function.__module__][function.__name__]
             self.assertEqual(names, [name for name in parameters if name in WRONG][:len(names)])
-            self.assertEqual(set(parameters) - set(names) - {"value"}, set(), function)
+            self.assertEqual(set(parameters) - set(names) - {"value", "text"}, set(), function)
             self.assertEqual((len(small), len(big)), (len(parameters),) * 2)
             self.assertIs(getattr(importlib.import_module(function.__module__), function.__name__), function)
 

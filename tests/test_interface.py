@@ -1,4 +1,4 @@
-"""Promises 7 to 19: every name of the interface, its arguments, and the file in which it is defined."""
+"""Promises 7 to 25: every name of the interface, its arguments, and the file in which it is defined."""
 
 import importlib
 import inspect
@@ -109,6 +109,46 @@ FUNCTIONS = {
         "swings": ["sizes", "form"],
         "rises": ["sizes", "form", "field"],
     },
+    "leastreasons.texts": {
+        "write_form": ["sizes", "form"],
+        "read_form": ["sizes", "text"],
+        "write_case": ["sizes", "half"],
+        "read_case": ["sizes", "text"],
+    },
+}
+
+# Each class with the classes right above it, its methods, each with its arguments, its properties and its operators.
+DECIDER_OPERATORS = [
+    "__contains__", "__and__", "__or__", "__xor__", "__invert__", "__iand__", "__ior__", "__ixor__", "__eq__", "__ne__",
+    "__le__", "__lt__", "__bool__",
+]
+DECIDER_METHODS = {
+    "__init__": "(self, sizes, form)",
+    "__call__": "(self, case)",
+    "reasons": "(self, case)",
+    "turns": "(self, case)",
+    "yes_cases": "(self)",
+}
+DESK_METHODS = {
+    "__init__": "(self, sizes, form)",
+    "change": "(self, form)",
+    "undo": "(self)",
+    "reasons": "(self)",
+    "missing": "(self)",
+    "twin": "(self)",
+    "supposing": "(self, *, field, value)",
+    "trial": "(self, pairs)",
+    "rehearse": "(self, *, field, value, deeds)",
+}
+BEGIN = {"__init__": "(self, sizes, form)"}
+CLASSES = {
+    ("leastreasons.deciders", "Decider"): (["object"], DECIDER_METHODS, ["sizes", "form"], DECIDER_OPERATORS),
+    ("leastreasons.deciders", "CountingDecider"): (["Decider"], BEGIN, ["asked"], []),
+    ("leastreasons.deciders", "NotingDecider"): (["Decider"], BEGIN, ["noted"], []),
+    ("leastreasons.deciders", "CountingNotingDecider"): (["CountingDecider", "NotingDecider"], BEGIN, [], []),
+    ("leastreasons.desks", "Desk"): (["object"], DESK_METHODS, ["half", "form", "answer", "deeds"],
+                                     ["__getitem__", "__setitem__", "__contains__", "__len__"]),
+    ("leastreasons.console", "Console"): (["object"], {"__init__": "(self)", "execute": "(self, command)"}, [], []),
 }
 
 ERRORS = [
@@ -133,6 +173,36 @@ class FunctionsTest(unittest.TestCase):
                 for parameter in told.values():
                     self.assertEqual(parameter.kind, inspect.Parameter.POSITIONAL_OR_KEYWORD, name)
                     self.assertIs(parameter.default, inspect.Parameter.empty, name)
+
+
+    def test_common(self):
+        function = importlib.import_module("leastreasons.deciders").common
+        self.assertTrue(inspect.isfunction(function))
+        self.assertEqual(function.__module__, "leastreasons.deciders")
+        self.assertEqual(str(inspect.signature(function)), "(first, *more)")
+
+
+class ClassesTest(unittest.TestCase):
+    def test_each_class_stands_in_its_file_with_its_own_methods(self):
+        for (module_name, name), (bases, methods, properties, operators) in CLASSES.items():
+            kind = getattr(importlib.import_module(module_name), name)
+            self.assertTrue(inspect.isclass(kind), name)
+            self.assertEqual((kind.__module__, kind.__name__), (module_name, name))
+            self.assertEqual([base.__name__ for base in kind.__bases__], bases)
+            own = vars(kind)
+            for method, signature in methods.items():
+                self.assertTrue(inspect.isfunction(own.get(method)), (name, method))
+                self.assertEqual(str(inspect.signature(own[method])), signature, (name, method))
+            for one in properties:
+                self.assertIsInstance(own.get(one), property, (name, one))
+            for operator in operators:
+                self.assertTrue(inspect.isfunction(own.get(operator)), (name, operator))
+
+    def test_the_class_methods_of_deciders(self):
+        kind = importlib.import_module("leastreasons.deciders").Decider
+        for name, signature in (("of_card", "(sizes, *weights, bound=0)"), ("of_rules", "(sizes, *rules, last=False)")):
+            self.assertIsInstance(vars(kind)[name], classmethod)
+            self.assertEqual(str(inspect.signature(getattr(kind, name))), signature)
 
 
 class ErrorsTest(unittest.TestCase):
