@@ -146,8 +146,10 @@ class AnswersTest(unittest.TestCase):
         for kind in CLASSES:
             for sizes, form in samples():
                 decider, case = kind(sizes, form), some_case(source, sizes)
-                self.assertEqual(decider.reasons(case), of_reasons.reasons(sizes, form, case))
-                self.assertEqual(decider.turns(case=case), of_reasons.turns(sizes, form, case))
+                for found in (decider.reasons(case), decider.reasons(case=case)):
+                    self.assertEqual(found, of_reasons.reasons(sizes, form, case))
+                for found in (decider.turns(case), decider.turns(case=case)):
+                    self.assertEqual(found, of_reasons.turns(sizes, form, case))
         self.assertEqual(Decider(EXAMPLE_SIZES, EXAMPLE).reasons([1, 1, 1]), [[0, 1], [0, 2]])
         self.assertEqual(Decider(EXAMPLE_SIZES, EXAMPLE).turns(case=[1, 1, 1]), [[0], [1, 2]])
 
